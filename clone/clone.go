@@ -1,0 +1,51 @@
+// Package clone copies values of package api, so that results share no memory with arguments.
+package clone
+
+import (
+	"slices"
+
+	"seismonet/api"
+)
+
+// Each returns a list of the copies of the elements of a list; f copies one.
+func Each[T any](l []T, f func(T) T) []T {
+	var copies []T
+	for _, x := range l {
+		copies = append(copies, f(x))
+	}
+	return copies
+}
+
+// Stage returns a copy of a stage.
+func Stage(s api.Stage) api.Stage {
+	s.Taps = slices.Clone(s.Taps)
+	return s
+}
+
+// Epoch returns a copy of an epoch.
+func Epoch(e api.Epoch) api.Epoch {
+	e.Response.Stages = Each(e.Response.Stages, Stage)
+	return e
+}
+
+// Channel returns a copy of a channel.
+func Channel(c api.Channel) api.Channel {
+	c.Epochs = Each(c.Epochs, Epoch)
+	return c
+}
+
+// Inventory returns a copy of an inventory.
+func Inventory(inv api.Inventory) api.Inventory {
+	return api.Inventory{Channels: Each(inv.Channels, Channel)}
+}
+
+// Change returns a copy of a change.
+func Change(c api.Change) api.Change {
+	c.Epoch = Epoch(c.Epoch)
+	return c
+}
+
+// History returns a copy of a history.
+func History(h api.History) api.History {
+	return api.History{Base: Inventory(h.Base), Changes: Each(h.Changes, Change)}
+}

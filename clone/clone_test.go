@@ -1,0 +1,30 @@
+package clone
+
+import (
+	"reflect"
+	"testing"
+
+	"seismonet/api"
+)
+
+func inventory() api.Inventory {
+	stages := []api.Stage{{Kind: 2, Taps: []int{1, 2}}, {Kind: 1}}
+	return api.Inventory{Channels: []api.Channel{{Epochs: []api.Epoch{{From: 1, To: 2, Response: api.Response{Stages: stages}}}}}}
+}
+
+func TestHistory(t *testing.T) {
+	h := api.History{Base: inventory(), Changes: []api.Change{{From: 3, Epoch: inventory().Channels[0].Epochs[0]}}}
+	c := History(h)
+	if !reflect.DeepEqual(c, h) {
+		t.Error(c)
+	}
+	c.Base.Channels[0].Epochs[0].Response.Stages[0].Taps[0] = 9
+	c.Base.Channels[0].Epochs[0].Response.Stages[1].Kind = 9
+	c.Base.Channels[0].Epochs[0].From = 9
+	c.Base.Channels[0].Source.Network = "X"
+	c.Changes[0].Epoch.Response.Stages[0].Taps[0] = 9
+	c.Changes[0].From = 9
+	if !reflect.DeepEqual(h.Base, inventory()) || h.Changes[0].From != 3 || h.Changes[0].Epoch.Response.Stages[0].Taps[0] != 1 {
+		t.Error("memory is shared", h)
+	}
+}
