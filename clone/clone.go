@@ -49,3 +49,15 @@ func Change(c api.Change) api.Change {
 func History(h api.History) api.History {
 	return api.History{Base: Inventory(h.Base), Changes: Each(h.Changes, Change)}
 }
+
+// Solution returns a copy of a solution.
+func Solution(s api.Solution) api.Solution {
+	s.Picks = slices.Clone(s.Picks)
+	return s
+}
+
+// Event returns a copy of an event.
+func Event(e api.Event) api.Event {
+	e.Solution = Solution(e.Solution)
+	return e
+}

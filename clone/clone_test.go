@@ -28,3 +28,19 @@ func TestHistory(t *testing.T) {
 		t.Error("memory is shared", h)
 	}
 }
+
+func event() api.Event {
+	return api.Event{Name: api.Pick{Time: 5}, Solution: api.Solution{Picks: []api.Pick{{Time: 5}, {Time: 6}}, Count: 2}}
+}
+
+func TestEvent(t *testing.T) {
+	e := event()
+	c := Event(e)
+	if !reflect.DeepEqual(c, e) {
+		t.Error(c)
+	}
+	c.Solution.Picks[0].Time = 9
+	if !reflect.DeepEqual(e, event()) {
+		t.Error("memory is shared", e)
+	}
+}
