@@ -61,3 +61,15 @@ func Event(e api.Event) api.Event {
 	e.Solution = Solution(e.Solution)
 	return e
 }
+
+// Alert returns a copy of an alert.
+func Alert(a api.Alert) api.Alert {
+	a.Event = Event(a.Event)
+	return a
+}
+
+// Bulletin returns a copy of a bulletin.
+func Bulletin(b api.Bulletin) api.Bulletin {
+	b.Event = Event(b.Event)
+	return b
+}

@@ -44,3 +44,15 @@ func TestEvent(t *testing.T) {
 		t.Error("memory is shared", e)
 	}
 }
+
+func TestAlertsAndBulletins(t *testing.T) {
+	a, b := api.Alert{ID: 3, Event: event()}, api.Bulletin{ID: 4, Event: event()}
+	x, y := Alert(a), Bulletin(b)
+	if !reflect.DeepEqual(x, a) || !reflect.DeepEqual(y, b) {
+		t.Error(x, y)
+	}
+	x.Event.Solution.Picks[0].Time, y.Event.Solution.Picks[0].Time = 9, 9
+	if !reflect.DeepEqual(a.Event, event()) || !reflect.DeepEqual(b.Event, event()) {
+		t.Error("memory is shared")
+	}
+}
