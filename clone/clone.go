@@ -73,3 +73,19 @@ func Bulletin(b api.Bulletin) api.Bulletin {
 	b.Event = Event(b.Event)
 	return b
 }
+
+// Version returns a copy of a version.
+func Version(v api.Version) api.Version {
+	v.Event = Event(v.Event)
+	return v
+}
+
+// Entry returns a copy of an entry.
+func Entry(e api.Entry) api.Entry {
+	return api.Entry{Versions: Each(e.Versions, Version)}
+}
+
+// Catalogue returns a copy of a catalogue.
+func Catalogue(c api.Catalogue) api.Catalogue {
+	return api.Catalogue{Entries: Each(c.Entries, Entry)}
+}

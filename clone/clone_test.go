@@ -56,3 +56,16 @@ func TestAlertsAndBulletins(t *testing.T) {
 		t.Error("memory is shared")
 	}
 }
+
+func TestCatalogue(t *testing.T) {
+	c := api.Catalogue{Entries: []api.Entry{{Versions: []api.Version{{Kind: 1, Event: event()}}}}}
+	x := Catalogue(c)
+	if !reflect.DeepEqual(x, c) {
+		t.Error(x)
+	}
+	x.Entries[0].Versions[0].Event.Solution.Picks[0].Time = 9
+	x.Entries[0].Versions[0].Kind = 9
+	if v := c.Entries[0].Versions[0]; v.Kind != 1 || !reflect.DeepEqual(v.Event, event()) {
+		t.Error("memory is shared")
+	}
+}
