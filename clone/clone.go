@@ -89,3 +89,26 @@ func Entry(e api.Entry) api.Entry {
 func Catalogue(c api.Catalogue) api.Catalogue {
 	return api.Catalogue{Entries: Each(c.Entries, Entry)}
 }
+
+// Batch returns a copy of a batch.
+func Batch(b api.Batch) api.Batch {
+	return api.Batch{Picks: slices.Clone(b.Picks), Events: Each(b.Events, Event), Left: slices.Clone(b.Left)}
+}
+
+// Table returns a copy of a table.
+func Table(t api.Table) api.Table {
+	t.Low, t.High = slices.Clone(t.Low), slices.Clone(t.High)
+	return t
+}
+
+// Settings returns a copy of settings.
+func Settings(s api.Settings) api.Settings {
+	s.Association.Table = Table(s.Association.Table)
+	s.Scale.Correction = Table(s.Scale.Correction)
+	return s
+}
+
+// Progress returns a copy of a progress.
+func Progress(p api.Progress) api.Progress {
+	return api.Progress{Settings: Settings(p.Settings), Inventory: Inventory(p.Inventory), Batches: Each(p.Batches, Batch)}
+}

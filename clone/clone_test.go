@@ -69,3 +69,24 @@ func TestCatalogue(t *testing.T) {
 		t.Error("memory is shared")
 	}
 }
+
+func progress() api.Progress {
+	table := func() api.Table { return api.Table{Low: []int{1, 2}, High: []int{3, 4}} }
+	s := api.Settings{Association: api.Association{Table: table()}, Scale: api.Scale{Correction: table()}}
+	return api.Progress{Settings: s, Inventory: inventory(), Batches: []api.Batch{{Picks: []api.Pick{{Time: 5}}, Events: []api.Event{event()}, Left: []api.Pick{{Time: 6}}}}}
+}
+
+func TestProgress(t *testing.T) {
+	p := progress()
+	x := Progress(p)
+	if !reflect.DeepEqual(x, p) {
+		t.Error(x)
+	}
+	x.Settings.Association.Table.Low[0], x.Settings.Association.Table.High[0] = 9, 9
+	x.Settings.Scale.Correction.Low[0], x.Settings.Scale.Correction.High[0] = 9, 9
+	x.Inventory.Channels[0].Epochs[0].From = 9
+	x.Batches[0].Picks[0].Time, x.Batches[0].Left[0].Time, x.Batches[0].Events[0].Solution.Picks[0].Time = 9, 9, 9
+	if !reflect.DeepEqual(p, progress()) {
+		t.Error("memory is shared")
+	}
+}
