@@ -112,3 +112,20 @@ func Settings(s api.Settings) api.Settings {
 func Progress(p api.Progress) api.Progress {
 	return api.Progress{Settings: Settings(p.Settings), Inventory: Inventory(p.Inventory), Batches: Each(p.Batches, Batch)}
 }
+
+// Record returns a copy of a record.
+func Record(r api.Record) api.Record {
+	r.Samples = slices.Clone(r.Samples)
+	return r
+}
+
+// Store returns a copy of a store.
+func Store(s api.Store) api.Store {
+	s.Records = Each(s.Records, Record)
+	return s
+}
+
+// Archive returns a copy of an archive.
+func Archive(a api.Archive) api.Archive {
+	return api.Archive{Stores: Each(a.Stores, Store)}
+}

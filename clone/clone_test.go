@@ -90,3 +90,19 @@ func TestProgress(t *testing.T) {
 		t.Error("memory is shared")
 	}
 }
+
+func archive() api.Archive {
+	return api.Archive{Stores: []api.Store{{Records: []api.Record{{Start: 5, Samples: []int{1, 2}}}}}}
+}
+
+func TestArchive(t *testing.T) {
+	a := archive()
+	x := Archive(a)
+	if !reflect.DeepEqual(x, a) {
+		t.Error(x)
+	}
+	x.Stores[0].Records[0].Samples[0], x.Stores[0].Records[0].Start, x.Stores[0].Source.Network = 9, 9, "X"
+	if !reflect.DeepEqual(a, archive()) {
+		t.Error("memory is shared")
+	}
+}
