@@ -129,3 +129,24 @@ func Store(s api.Store) api.Store {
 func Archive(a api.Archive) api.Archive {
 	return api.Archive{Stores: Each(a.Stores, Store)}
 }
+
+// Setup returns a copy of a setup.
+func Setup(u api.Setup) api.Setup {
+	u.Settings = Settings(u.Settings)
+	u.Policy.Rules = slices.Clone(u.Policy.Rules)
+	return u
+}
+
+// Centre returns a copy of a centre.
+func Centre(c api.Centre) api.Centre {
+	return api.Centre{
+		Setup:     Setup(c.Setup),
+		Now:       c.Now,
+		History:   History(c.History),
+		Archive:   Archive(c.Archive),
+		Progress:  Progress(c.Progress),
+		Catalogue: Catalogue(c.Catalogue),
+		Alerts:    Each(c.Alerts, Alert),
+		Bulletins: Each(c.Bulletins, Bulletin),
+	}
+}

@@ -106,3 +106,26 @@ func TestArchive(t *testing.T) {
 		t.Error("memory is shared")
 	}
 }
+
+func centre() api.Centre {
+	return api.Centre{
+		Setup: api.Setup{Settings: progress().Settings, Joining: 3, Policy: api.Policy{Rules: []api.Rule{{Picks: 1}}}}, Now: 7,
+		History: api.History{Base: inventory()}, Archive: archive(), Progress: progress(),
+		Catalogue: api.Catalogue{Entries: []api.Entry{{Versions: []api.Version{{Event: event()}}}}},
+		Alerts:    []api.Alert{{Event: event()}}, Bulletins: []api.Bulletin{{Event: event()}},
+	}
+}
+
+func TestCentre(t *testing.T) {
+	c := centre()
+	x := Centre(c)
+	if !reflect.DeepEqual(x, c) {
+		t.Error(x)
+	}
+	x.Setup.Settings.Scale.Correction.Low[0], x.Setup.Policy.Rules[0].Picks = 9, 9
+	x.History.Base.Channels[0].Epochs[0].From, x.Archive.Stores[0].Records[0].Start, x.Progress.Batches[0].Left[0].Time = 9, 9, 9
+	x.Catalogue.Entries[0].Versions[0].Kind, x.Alerts[0].ID, x.Bulletins[0].ID = 9, 9, 9
+	if !reflect.DeepEqual(c, centre()) {
+		t.Error("memory is shared")
+	}
+}
