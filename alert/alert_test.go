@@ -148,7 +148,7 @@ func TestStepErrors(t *testing.T) {
 		want   api.Errno
 	}{
 		{bad, []api.Alert{alertOf(-1, 0, a)}, -1, nil, -1, api.ErrSettings}, {policy(), []api.Alert{alertOf(-1, 0, a)}, 6, nil, -1, api.ErrInvalid}, {policy(), l, 6, []api.Event{b, a}, -1, api.ErrInvalid}, {policy(), nil, -1, nil, -1, api.ErrInvalid},
-		{policy(), l, 5, nil, -1, api.ErrInvalid}, {policy(), l, 6, nil, -1, api.ErrRange}, {policy(), l, 6, nil, 2*api.MaxTime + 1, api.ErrRange}, {policy(), l, 6, nil, 899, api.ErrOrder}, {policy(), l, 6, nil, 900, api.OK},
+		{policy(), l, 5, nil, -1, api.ErrInvalid}, {policy(), l, 6, nil, -1, api.ErrRange}, {policy(), l, 6, nil, 2*api.MaxTime + 1, api.ErrRange}, {policy(), nil, 0, nil, 0, api.OK}, {policy(), l, 6, nil, 2 * api.MaxTime, api.OK}, {policy(), l, 6, nil, 899, api.ErrOrder}, {policy(), l, 6, nil, 900, api.OK},
 		{policy(), many, 200, []api.Event{a}, 1000, api.ErrLimit}, {policy(), many[1:], 200, []api.Event{a}, 1000, api.OK}, {policy(), nil, api.MaxBulletins, []api.Event{a}, 1000, api.ErrLimit}, {policy(), nil, api.MaxBulletins - 1, []api.Event{a}, 1000, api.OK},
 		{policy(), nil, api.MaxBulletins - 1, []api.Event{a, b}, 1000, api.ErrLimit}, {policy(), nil, 1<<63 - 1, nil, 1000, api.OK}, {policy(), nil, 1<<63 - 1, []api.Event{a}, 1000, api.ErrLimit}, {policy(), nil, 1<<63 - 2, []api.Event{a, b}, 1000, api.ErrLimit},
 	} {

@@ -208,8 +208,10 @@ func TestPicks(t *testing.T) {
 		t.Error(e)
 	}
 	for _, tolerance := range []int{-1, api.Second + 1} {
-		if l, e := Picks(example(), picking, tolerance); l != nil || e != api.ErrRange {
-			t.Error(e)
+		for _, a := range []api.Archive{example(), archive()} {
+			if l, e := Picks(a, picking, tolerance); l != nil || e != api.ErrRange {
+				t.Error(e)
+			}
 		}
 	}
 	many := rec("B", 0, 0, slices.Repeat([]int{0, 0, 0, 7}, api.MaxTriggers+1)...)

@@ -53,6 +53,7 @@ func TestValidate(t *testing.T) {
 		{settings(), nil, api.OK}, {settings(), slices.Repeat([]api.Phase{good}, api.MaxPicks), api.OK}, {with(func(s *api.Association) {
 			s.Cap, s.Tolerance, s.Limit, s.Span, s.Least = api.MaxCap, api.MaxCap, api.MaxCap, api.MaxTravel, 16
 		}), nil, api.OK},
+		{with(func(s *api.Association) { s.Cap, s.Tolerance, s.Limit, s.Span, s.Least = 1, 0, 0, 0, 2 }), nil, api.OK},
 		{with(func(s *api.Association) { s.Region.Low.X = 31 }), make([]api.Phase, 999), api.ErrSettings}, {with(func(s *api.Association) { s.Table.Step = 0 }), nil, api.ErrSettings}, {with(func(s *api.Association) { s.Cap = 0 }), nil, api.ErrSettings},
 		{with(func(s *api.Association) { s.Cap = api.MaxCap + 1 }), nil, api.ErrSettings}, {with(func(s *api.Association) { s.Tolerance = -1 }), nil, api.ErrSettings}, {with(func(s *api.Association) { s.Tolerance = api.MaxCap + 1 }), nil, api.ErrSettings},
 		{with(func(s *api.Association) { s.Limit = -1 }), nil, api.ErrSettings}, {with(func(s *api.Association) { s.Limit = api.MaxCap + 1 }), nil, api.ErrSettings}, {with(func(s *api.Association) { s.Span = -1 }), nil, api.ErrSettings},
@@ -238,6 +239,22 @@ func checkShuffled(t *testing.T, r *rand.Rand, s api.Association, l []api.Phase,
 	for i, g := range groups {
 		if g.Point != again[i].Point || g.Time != again[i].Time || !reflect.DeepEqual(members(l, g), members(turned, again[i])) {
 			t.Fatal(g, again[i])
+		}
+	}
+}
+
+func TestExplainsAtTheEnds(t *testing.T) {
+	last := 2 * api.MaxTime
+	l := slices.Repeat([]api.Phase{{Early: last, Late: last, Weight: 1}}, 3)
+	for _, c := range []struct {
+		s    api.Association
+		time int
+		want bool
+	}{
+		{settings(), last, true}, {with(func(s *api.Association) { s.Limit = 100 }), last + 1, false}, {with(func(s *api.Association) { s.Limit = 100 }), last, true}, {with(func(s *api.Association) { s.Cap = 0 }), last, false}, {with(func(s *api.Association) { s.Least = 4 }), last, false},
+	} {
+		if got := Explains(c.s, l, api.Group{Members: []int{0, 1, 2}, Time: c.time}); got != c.want {
+			t.Error(c.time, got)
 		}
 	}
 }

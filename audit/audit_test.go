@@ -108,6 +108,7 @@ func TestCheckFindsChanges(t *testing.T) {
 		{func(c *api.Centre) { event(c).Location.Time++ }, []int{api.BadLocation}},
 		{func(c *api.Centre) { event(c).Location.Point.X = 31 }, []int{api.BadLocation}},
 		{func(c *api.Centre) { event(c).Location.Lower = event(c).Location.Misfit + 1 }, []int{api.BadLocation}},
+		{func(c *api.Centre) { event(c).Location.Lower = event(c).Location.Misfit }, nil},
 		{func(c *api.Centre) { event(c).Location.Lower = event(c).Location.Misfit - 50001 }, []int{api.BadLocation}},
 		{func(c *api.Centre) { event(c).Location.Lower = event(c).Location.Misfit - 50000 }, nil},
 		{func(c *api.Centre) { event(c).Location.Lower = -1 << 63 }, []int{api.BadLocation}},

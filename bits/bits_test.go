@@ -29,6 +29,10 @@ func TestPutAndGet(t *testing.T) {
 				t.Error(n, width, back, e)
 			}
 		}
+		whole, _ := Put("", top, width)
+		if back, e := Get(whole, 0, width); back != top || e != api.OK {
+			t.Error(width, back, e)
+		}
 		for _, n := range []int{-1, top + 1, least, greatest} {
 			if s, e := Put("ab", n, width); s != "" || e != api.ErrRange {
 				t.Error(n, width, s, e)

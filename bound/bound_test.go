@@ -98,7 +98,7 @@ func TestZonesOfParts(t *testing.T) {
 	r := rand.New(rand.NewSource(22))
 	for range 300 {
 		b := box(0, 0, 0, r.Intn(700), r.Intn(700), r.Intn(700))
-		a := api.Phase{Station: at(r.Intn(900)-300, r.Intn(900)-300, r.Intn(500)), Early: r.Intn(500), Weight: 1}
+		a := api.Phase{Station: at(r.Intn(1800)-900, r.Intn(900)-300, r.Intn(500)), Early: r.Intn(500), Weight: 1}
 		a.Late = a.Early + r.Intn(100)
 		outer, e := Zone(example, b, a)
 		if e != api.OK {

@@ -129,6 +129,13 @@ func TestValid(t *testing.T) {
 	fine := base()
 	fine.Entries[0].Versions[1].Event, fine.Entries[0].Versions[2].Event, fine.Entries[0].Versions[3].Event = b, b, b
 	fine.Entries[0].Versions[1].By = "abcdefghijklmnop"
+	for _, by := range []string{"a", "z", "az"} {
+		fine.Entries[0].Versions[1].By = by
+		fine.Entries[0].Versions[5].At = 2 * api.MaxTime
+		if !Valid(fine) {
+			t.Error(by)
+		}
+	}
 	if !Valid(fine) {
 		t.Error("a review may set another event")
 	}
@@ -208,7 +215,7 @@ func TestPublishErrors(t *testing.T) {
 		now    int
 		want   api.Errno
 	}{
-		{c, []api.Event{b, a}, -1, api.ErrInvalid}, {c, nil, -1, api.ErrRange}, {c, nil, 2*api.MaxTime + 1, api.ErrRange}, {c, nil, 7, api.ErrOrder}, {c, nil, 8, api.OK}, {catalogue(full...), []api.Event{happen(1, 1)}, 0, api.ErrLimit},
+		{c, []api.Event{b, a}, -1, api.ErrInvalid}, {c, nil, -1, api.ErrRange}, {c, nil, 2*api.MaxTime + 1, api.ErrRange}, {c, nil, 7, api.ErrOrder}, {c, nil, 8, api.OK}, {c, nil, 2 * api.MaxTime, api.OK}, {catalogue(full...), []api.Event{happen(1, 1)}, 0, api.ErrLimit},
 		{catalogue(full[1:]...), []api.Event{happen(1, 1)}, 0, api.OK}, {catalogue(long), nil, 0, api.ErrLimit}, {catalogue(long), []api.Event{a}, 0, api.OK}, {catalogue(entry(long.Versions[1:]...)), nil, 0, api.OK},
 	} {
 		if got, l, e := Publish(x.c, x.events, x.now); e != x.want || e != api.OK && (!Same(got, api.Catalogue{}) || l != nil) {

@@ -268,6 +268,18 @@ func versionOf(c api.Centre, id int) api.Event {
 	return c.Catalogue.Entries[id].Versions[0].Event
 }
 
+func TestTimesOfTicks(t *testing.T) {
+	c, _ := tick(t, start(t), 5)
+	for now, want := range map[int]api.Errno{4: api.ErrOrder, 5: api.OK, 2 * api.MaxTime: api.OK, 2*api.MaxTime + 1: api.ErrRange, -1: api.ErrRange} {
+		if _, _, e := Tick(c, now); e != want {
+			t.Error(now, e)
+		}
+	}
+	if _, _, e := Tick(start(t), 0); e != api.OK {
+		t.Error(e)
+	}
+}
+
 func TestTickErrors(t *testing.T) {
 	c := eventful(t)
 	noisy := clone.Centre(c)

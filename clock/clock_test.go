@@ -113,6 +113,7 @@ func TestJumpsAndCorrect(t *testing.T) {
 		{anchors(1000, 5000, 5010), 1100, 5105, 5, api.OK, 0}, {two, 500, 2500, 2000, api.OK, 0}, {two, 0, 2000, 2000, api.OK, 0}, {two, 1000, 5000, 0, api.OK, 0},
 		{two, 2000, 6000, 0, api.OK, 0}, {runs, 0, 915, 5, api.OK, 0}, {runs, 150, 1065, 5, api.OK, 0}, {runs, 199, 1114, 5, api.OK, 0},
 		{runs, 200, 5010, 3900, api.OK, 0}, {runs, 299, 5109, 3900, api.OK, 0}, {runs, 300, 9007, 3, api.OK, 0}, {runs, 400, 9107, 3, api.OK, 0}, {runs, 500, 9207, 3, api.OK, 0},
+		{anchors(0, 0, 0, 1000, 10, 10), 500, 250, 250, api.OK, 0}, {anchors(500, 0, 601), 0, 50, 51, api.OK, 0}, {anchors(0, 0, 0, 1000, 10, 11), 501, 250, 251, api.OK, 0},
 		{nil, 0, 0, 0, api.ErrNotFound, 0}, {nil, -1, 0, 0, api.ErrInvalid, 0}, {runs, api.MaxTime + 1, 0, 0, api.ErrInvalid, 0}, {two, 0, 0, 0, api.ErrInvalid, -1},
 		{anchors(500, 0, 0), 0, 0, 0, api.ErrConflict, 0}, {anchors(500, 0, 600), 0, 50, 50, api.OK, 0}, {anchors(0, api.MaxTime, api.MaxTime), 5, 0, 0, api.ErrConflict, 0},
 		{anchors(0, 0, 9, 100, 108, 122, 200, 222, 235), 100, 0, 0, api.ErrConflict, 0}, {anchors(0, api.MaxTime-9, api.MaxTime), 5, api.MaxTime - 2, 2, api.OK, 0},
@@ -178,6 +179,11 @@ func TestApply(t *testing.T) {
 		if got, e := Apply(c.l, 0, bad); !reflect.DeepEqual(got, api.Record{}) || e != c.want {
 			t.Error(i, got, e)
 		}
+	}
+	last := rec
+	last.Start, last.First, last.Error = api.MaxTime, 0, 0
+	if got, e := Apply(anchors(0, 0, 5), 0, last); got.Start != api.MaxTime || got.Error != 0 || e != api.OK {
+		t.Error(got, e)
 	}
 	rec.Error = api.MaxError - 2
 	if got, e := Apply(l, 0, rec); got.Error != api.MaxError || e != api.OK {

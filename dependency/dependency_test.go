@@ -85,6 +85,10 @@ func TestChanged(t *testing.T) {
 			t.Error(i)
 		}
 	}
+	plain := network(channel("A", api.Epoch{To: 100, Rate: api.Rate{Num: 1, Den: 1}}))
+	if !Changed(plain, network(), pick("A", 5)) || !Changed(network(), plain, pick("A", 5)) {
+		t.Error("an epoch at the origin without stages")
+	}
 	if Changed(broken, broken, pick("A", 5)) {
 		t.Error("invalid inventories have no epochs")
 	}

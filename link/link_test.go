@@ -38,6 +38,11 @@ func TestValid(t *testing.T) {
 	if !Valid(wire(5, 4, api.Transit{At: 6, Order: 3, Data: long[1:]}, api.Transit{At: 7, Order: 0}, api.Transit{At: 2 * api.MaxTick, Order: 0})) {
 		t.Error("valid")
 	}
+	full := invalid()[4]
+	full.Items = full.Items[1:]
+	if !Valid(full) || len(full.Items) != api.MaxWire {
+		t.Error("a full wire")
+	}
 	for i, w := range invalid() {
 		if Valid(w) {
 			t.Error(i)

@@ -12,6 +12,16 @@ import (
 
 var table = api.Table{Step: 10, Low: []int{0, 15, 32, 50, 70}, High: []int{0, 20, 40, 60, 80}}
 
+var fine = fineTable()
+
+func fineTable() api.Table {
+	t := api.Table{Step: 1}
+	for k := range 40 {
+		t.Low, t.High = append(t.Low, 2*k), append(t.High, 2*k)
+	}
+	return t
+}
+
 func at(x, y, z int) api.Position {
 	return api.Position{X: x, Y: y, Z: z}
 }
@@ -26,6 +36,20 @@ func random(r *rand.Rand) api.Problem {
 	for range 1 + r.Intn(5) {
 		early := 50 + r.Intn(30)
 		p.Phases = append(p.Phases, api.Phase{Station: at(r.Intn(20)-5, r.Intn(20)-5, 0), Early: early, Late: early + r.Intn(5), Weight: 1 + r.Intn(3)})
+	}
+	p.Region.Low = at(r.Intn(3)-2, r.Intn(3)-2, r.Intn(3)-2)
+	if r.Intn(4) == 0 {
+		p.Region.Low = at(1, 1, 1)
+		p.Region.High = at(1+r.Intn(3), 1+r.Intn(3), 1+r.Intn(2))
+	}
+	if r.Intn(3) > 0 {
+		p.Table = fine
+		if r.Intn(2) == 0 {
+			// Stations on one line see points on both sides of it alike.
+			for i := range p.Phases {
+				p.Phases[i].Station.X = p.Region.High.X / 2
+			}
+		}
 	}
 	return p
 }
@@ -84,6 +108,9 @@ func TestRandomProblems(t *testing.T) {
 	r := rand.New(rand.NewSource(25))
 	for range 150 {
 		p := random(r)
+		if _, e := Locate(p, 0); e == api.ErrTries {
+			continue
+		}
 		before := 1 << 60
 		for _, tolerance := range []int{0, 1, 3, 10, 1000} {
 			got, e := Locate(p, tolerance)
@@ -107,9 +134,9 @@ func TestRandomProblems(t *testing.T) {
 
 func checkPoints(t *testing.T, p api.Problem, x api.Location, tolerance int) {
 	t.Helper()
-	for a := range p.Region.High.X + 1 {
-		for b := range p.Region.High.Y + 1 {
-			for c := range p.Region.High.Z + 1 {
+	for a := p.Region.Low.X; a <= p.Region.High.X; a++ {
+		for b := p.Region.Low.Y; b <= p.Region.High.Y; b++ {
+			for c := p.Region.Low.Z; c <= p.Region.High.Z; c++ {
 				_, cost, _ := misfit.At(p, at(a, b, c))
 				if x.Misfit-cost > tolerance || x.Lower > cost || cost < x.Misfit && !geometry.Contains(x.Area, at(a, b, c)) {
 					t.Fatal(p, x, a, b, c, cost)

@@ -7,6 +7,8 @@ import (
 	"testing"
 
 	"seismonet/api"
+	"seismonet/logarithm"
+	"seismonet/response"
 )
 
 func scale() api.Scale {
@@ -137,6 +139,29 @@ func TestAgree(t *testing.T) {
 	} {
 		if Agree(c.a, c.b) != c.want || Agree(c.b, c.a) != c.want {
 			t.Error(i)
+		}
+	}
+}
+
+// Low and High are those of the formula.
+func TestFormula(t *testing.T) {
+	r := rand.New(rand.NewSource(44))
+	for range 1000 {
+		amplitude := 1 + r.Intn(1<<(1+r.Intn(29)))
+		stages := gain(1+r.Intn(1000), 1+r.Intn(1000))
+		g, _ := response.Gain(stages, 1, 1)
+		a, _ := logarithm.Log(amplitude)
+		n, _ := logarithm.LogNat(g.Num)
+		d, _ := logarithm.LogNat(g.Den)
+		level := float64(2*a + d - n)
+		want := api.Estimate{Low: logarithm.Floor(int(math.Floor((level-2)/2))) + 100, High: logarithm.Ceil(int(math.Ceil((level+6)/2))) + 110}
+		if got, e := Station(scale(), stages, amplitude, 100, 100); got != want || e != api.OK {
+			t.Fatal(got, want, e)
+		}
+	}
+	for _, amplitude := range []int{0, -1, api.MaxSample + 1} {
+		if _, e := Station(scale(), gain(1, 1), amplitude, 0, 0); e != api.ErrRange {
+			t.Error(amplitude, e)
 		}
 	}
 }

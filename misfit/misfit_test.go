@@ -44,6 +44,7 @@ func TestValidate(t *testing.T) {
 	}{
 		{func(p *api.Problem) {}, api.OK},
 		{func(p *api.Problem) { p.Phases = slices.Repeat(p.Phases, 32); p.Cap = api.MaxCap }, api.OK},
+		{func(p *api.Problem) { p.Cap = 1 }, api.OK},
 		{func(p *api.Problem) { p.Region.Low.X = 10; p.Table.Step = 0 }, api.ErrRegion},
 		{func(p *api.Problem) { p.Table.Step = 0; p.Phases = nil }, api.ErrTable},
 		{func(p *api.Problem) { p.Phases = nil; p.Cap = 0 }, api.ErrNone},

@@ -73,6 +73,12 @@ func TestRunErrors(t *testing.T) {
 		noisy.Samples = append(noisy.Samples, slices.Repeat([]int{1}, 40)...)
 		noisy.Samples = append(noisy.Samples, 500, 500, 500, 1)
 	}
+	var many []api.Record
+	for i := range api.MaxRecords + 1 {
+		r := records()[0]
+		r.Seq = i
+		many = append(many, r)
+	}
 	close := example.Setup()
 	close.Settings.Association.Tolerance, close.Settings.Association.Least = 0, 2
 	close.Settings.Association.Region.High.Z = 30
@@ -84,6 +90,7 @@ func TestRunErrors(t *testing.T) {
 		l    []api.Record
 		want api.Errno
 	}{
+		{example.Setup(), broken, many, api.ErrInvalid}, {example.Setup(), example.Inventory(), many, api.ErrLimit},
 		{bad, broken, []api.Record{{}}, api.ErrSettings}, {example.Setup(), broken, []api.Record{{}}, api.ErrInvalid}, {example.Setup(), example.Inventory(), []api.Record{{}}, api.ErrInvalid},
 		{example.Setup(), example.Inventory(), []api.Record{noisy}, api.ErrLimit}, {close, example.Inventory(), []api.Record{twice}, api.ErrTries},
 	} {

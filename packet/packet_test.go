@@ -40,6 +40,7 @@ func valid() []api.Packet {
 		changed(func(p *api.Packet) { p.Run, p.Seq, p.Start = api.MaxRun, api.MaxSeq, api.MaxTime }),
 		changed(func(p *api.Packet) { p.Run, p.Seq, p.Start = 0, 0, 0 }),
 		changed(func(p *api.Packet) { p.Quality = api.Quality{Clock: api.ClockUnknown, Error: api.MaxError} }),
+		changed(func(p *api.Packet) { p.Quality = api.Quality{} }),
 		changed(func(p *api.Packet) { p.Rate = api.Rate{Num: 4096, Den: 4095} }),
 		changed(func(p *api.Packet) { p.Samples = long }),
 		changed(func(p *api.Packet) { p.Samples = []int{-api.MaxSample, api.MaxSample} }),

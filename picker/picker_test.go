@@ -6,6 +6,7 @@ import (
 	"testing"
 
 	"seismonet/api"
+	"seismonet/detector"
 )
 
 var (
@@ -56,7 +57,7 @@ func TestValidPick(t *testing.T) {
 	good := api.Pick{Source: id, Time: 5, Early: 4, Late: 6, Amplitude: 1, Polarity: 1}
 	for i, f := range []func(p *api.Pick){
 		func(p *api.Pick) {}, func(p *api.Pick) { p.Early, p.Late = 5, 5 }, func(p *api.Pick) { p.Late = 2 * api.MaxTime }, func(p *api.Pick) { p.Amplitude, p.Polarity = api.MaxSample, -1 },
-		func(p *api.Pick) { p.Early = 0 },
+		func(p *api.Pick) { p.Early, p.Amplitude, p.Polarity = 0, 0, 0 },
 		func(p *api.Pick) { p.Source.Network = "" }, func(p *api.Pick) { p.Early = -1 }, func(p *api.Pick) { p.Early = 6 }, func(p *api.Pick) { p.Late = 4 }, func(p *api.Pick) { p.Late = 2*api.MaxTime + 1 },
 		func(p *api.Pick) { p.Amplitude = -1 }, func(p *api.Pick) { p.Amplitude = 1 << 30 }, func(p *api.Pick) { p.Polarity = 2 }, func(p *api.Pick) { p.Polarity = -2 },
 	} {
@@ -85,6 +86,7 @@ func TestOnset(t *testing.T) {
 		{with(func(p *api.Picking) { p.Level = 33 }), samples, 4, 2, api.OK},
 		{with(func(p *api.Picking) { p.Level = 34 }), samples, 4, 4, api.OK},
 		{with(func(p *api.Picking) { p.Back = 4 }), []int{0, -8, 9, -9, 9, 9}, 4, 2, api.OK},
+		{example, []int{0, 0, 3, 9, 0, 0}, 3, 3, api.OK}, {example, []int{0, 0, 4, 12, 0, 0}, 3, 3, api.OK}, {example, []int{1, 0, 4, 8, 0, 0}, 3, 2, api.OK},
 		{example, samples, 2, 0, api.ErrRange}, {example, samples, 8, 0, api.ErrRange}, {example, append(slices.Clone(samples), 1<<30), 4, 0, api.ErrRange}, {example, make([]int, api.MaxLength+1), 4, 0, api.ErrLimit},
 	} {
 		if got, e := Onset(c.p, c.samples, api.Trigger{On: c.on}); got != c.want || e != c.e {
@@ -157,6 +159,9 @@ func TestLimits(t *testing.T) {
 	if l, e := Segment(example, id, many); l != nil || e != api.ErrLimit {
 		t.Error(len(l), e)
 	}
+	if l, e := Run(example, id, []api.Segment{many, {}}); l != nil || e != api.ErrInvalid {
+		t.Error(len(l), e)
+	}
 	if l, e := Run(example, id, []api.Segment{many}); l != nil || e != api.ErrLimit {
 		t.Error(len(l), e)
 	}
@@ -202,5 +207,39 @@ func TestCompareAndSort(t *testing.T) {
 	}
 	if got := Sort(nil); len(got) != 0 {
 		t.Error(got)
+	}
+}
+
+// The picks of a segment have the onsets of its triggers.
+func TestOnsetsOfRandomSegments(t *testing.T) {
+	r := rand.New(rand.NewSource(43))
+	for range 300 {
+		p := api.Picking{Detector: api.Detector{Short: 1 + r.Intn(2), Long: 3 + r.Intn(5), On: 150, Off: 100}, Back: r.Intn(6), Level: r.Intn(200)}
+		g := segment()
+		for range 60 {
+			n := r.Intn(9) - 4
+			if r.Intn(9) == 0 {
+				n *= 20
+			}
+			g.Samples = append(g.Samples, n)
+		}
+		triggers, _ := detector.Run(p.Detector, g.Samples)
+		var want []int
+		for _, x := range triggers {
+			if at, e := Onset(p, g.Samples, x); x.Off >= 0 {
+				want = append(want, 1000000+100000*(1+at))
+				if e != api.OK {
+					t.Fatal(e)
+				}
+			}
+		}
+		var got []int
+		picks, e := Segment(p, id, g)
+		for _, x := range picks {
+			got = append(got, x.Time)
+		}
+		if e != api.OK || !slices.Equal(got, want) {
+			t.Fatal(p, g, got, want)
+		}
 	}
 }

@@ -146,6 +146,12 @@ func TestErrors(t *testing.T) {
 			t.Error(i, e)
 		}
 	}
+	if e := Check(p, x, 0, make([]int, 6001)); e != api.ErrProof {
+		t.Error(e)
+	}
+	if e := Check(p, x, 0, make([]int, 6002)); e != api.ErrLimit {
+		t.Error(e)
+	}
 	for _, bad := range [][]int{nil, {1}, {1, 0}, {1, 0, 0}, {0, 0}, {2}, {-1}, long[1:]} {
 		if e := Check(p, x, 0, bad); e != api.ErrProof {
 			t.Error(bad, e)
@@ -175,6 +181,15 @@ func TestLimitOfMake(t *testing.T) {
 	}
 	x.Lower = cost
 	if proof, e := Make(p, x, 1000); proof != nil || e != api.ErrLimit {
+		t.Error(len(proof), e)
+	}
+}
+
+func TestLowerAheadOfLimit(t *testing.T) {
+	p := problem(at(20, 20, 20), api.Phase{Early: 500, Late: 500, Weight: 1}, api.Phase{Early: 900, Late: 900, Weight: 1})
+	time, cost, _ := misfit.At(p, at(3, 3, 3))
+	x := api.Location{Point: at(3, 3, 3), Time: time, Misfit: cost, Lower: cost + 1, Area: p.Region}
+	if proof, e := Make(p, x, 0); proof != nil || e != api.ErrProof {
 		t.Error(len(proof), e)
 	}
 }

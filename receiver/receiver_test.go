@@ -153,6 +153,14 @@ func TestErrors(t *testing.T) {
 			t.Error(n, e)
 		}
 	}
+	for _, n := range []int{0, api.MaxSeq + 1} {
+		if l, e := Missing(r, n); span.Has(l, n-1) != (n > 0) || e != api.OK {
+			t.Error(n, l, e)
+		}
+	}
+	if l, e := Request(r, api.MaxSeq+1, api.MaxBuffer); !slices.Equal(l, spans(0, api.MaxBuffer)) || e != api.OK {
+		t.Error(l, e)
+	}
 	if _, e := Lose(r, api.MaxSeq+1); e != api.OK {
 		t.Error(e)
 	}

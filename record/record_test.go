@@ -42,13 +42,14 @@ func TestValid(t *testing.T) {
 			r.Samples, r.Error, r.Run, r.Seq = make([]int, api.MaxLength), api.MaxError, api.MaxRun, api.MaxSeq
 		}),
 		with(func(r *api.Record) { r.Samples = []int{api.MaxSample, -api.MaxSample} }),
+		with(func(r *api.Record) { r.Samples = []int{1} }),
 	} {
 		if !Valid(r) {
 			t.Error(i)
 		}
 	}
 	for i, r := range invalid() {
-		if Valid(r) || Follows(r, r, 9999999) {
+		if Valid(r) || Follows(r, r, 9999999) || Follows(example(), r, api.MaxTime) || Follows(r, example(), api.MaxTime) {
 			t.Error(i)
 		}
 		if s, e := Span(r); s != (api.Span{}) || e != api.ErrInvalid {
@@ -215,5 +216,14 @@ func TestOrders(t *testing.T) {
 	}
 	if !reflect.DeepEqual(example(), example()) {
 		t.Error("example")
+	}
+}
+
+// The time of the first sample counts ahead of Start, and as 0 for invalid records.
+func TestCompareByTime(t *testing.T) {
+	early, late := with(func(r *api.Record) { r.Start = 10 }), with(func(r *api.Record) { r.First = 3 })
+	none := with(func(r *api.Record) { r.Start, r.Samples = 500, nil })
+	if Compare(early, late) != -1 || Compare(late, early) != 1 || Compare(none, early) != -1 || Compare(early, none) != 1 {
+		t.Error(Compare(early, late), Compare(none, early))
 	}
 }

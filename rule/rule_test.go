@@ -24,7 +24,7 @@ func with(f func(s *api.Solution)) api.Event {
 
 func TestValidate(t *testing.T) {
 	for i, f := range []func(p *api.Policy){
-		func(p *api.Policy) {}, func(p *api.Policy) { p.Rules = slices.Repeat(p.Rules, 4) }, func(p *api.Policy) { p.Distance, p.Every = api.MaxTime, 0 },
+		func(p *api.Policy) { p.Rules, p.Distance, p.Every = p.Rules[:1], 0, api.MaxTime }, func(p *api.Policy) { p.Rules = slices.Repeat(p.Rules, 4) }, func(p *api.Policy) { p.Distance, p.Every = api.MaxTime, 0 },
 		func(p *api.Policy) {
 			p.Rules[0] = api.Rule{Magnitude: -1000, Picks: 64, Misfit: api.MaxTime, Window: api.MaxTime}
 		},

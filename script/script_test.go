@@ -165,7 +165,7 @@ func story() []api.Op {
 		l = append(l, api.Op{Kind: api.OpRecord, Record: r})
 	}
 	return append(l,
-		api.Op{Kind: api.OpTick, Now: 34 * api.Second}, api.Op{Kind: api.OpReview, ID: 0, By: "eve"}, api.Op{Kind: api.OpRecover}, api.Op{Kind: api.OpDelete, ID: 1, By: "bob"}, api.Op{Kind: api.OpTick, Now: 40 * api.Second},
+		api.Op{Kind: api.OpTick, Now: 34 * api.Second}, api.Op{Kind: api.OpReview, ID: 0, By: "eve"}, api.Op{Kind: api.OpReview, ID: 1, By: "eve"}, api.Op{Kind: api.OpRelease, ID: 1, By: "eve"}, api.Op{Kind: api.OpRecover}, api.Op{Kind: api.OpDelete, ID: 1, By: "bob"}, api.Op{Kind: api.OpTick, Now: 40 * api.Second},
 		api.Op{Kind: api.OpRelease, ID: 1, By: "bob"}, api.Op{Kind: api.OpMerge, ID: 1, Into: 0, By: "bob"}, api.Op{Kind: api.OpEnd, Source: example.Source(2), To: 20 * api.Second}, api.Op{Kind: api.OpTick, Now: 41 * api.Second})
 }
 
@@ -290,5 +290,35 @@ func TestRecoverAnywhere(t *testing.T) {
 	}
 	if !catalogue.Valid(want.Catalogue) {
 		t.Error(want.Catalogue)
+	}
+}
+
+func TestLongestText(t *testing.T) {
+	long := api.Op{Kind: api.OpRecord, Record: rec()}
+	long.Record.Samples = slices.Repeat([]int{1000000}, 400)
+	l := slices.Repeat([]api.Op{long}, 20)
+	s, _ := Format(l)
+	rest := api.MaxText - len(s)
+	for ; rest >= 40; rest -= len("recover\n") {
+		l = append(l, api.Op{Kind: api.OpRecover})
+	}
+	now := 1
+	for range rest - len("tick 1\n") {
+		if now < 100000000000000000 {
+			now *= 10
+			rest--
+		}
+	}
+	l = append(l, api.Op{Kind: api.OpTick, Now: now})
+	for rest -= len("tick 1\n"); rest > 0; rest-- {
+		l[0].Record.Samples = append([]int{l[0].Record.Samples[0] * 10}, l[0].Record.Samples[1:]...)
+	}
+	s, e := Format(l)
+	if back, _, f := Parse(s); len(s) != api.MaxText || e != api.OK || f != api.OK || !reflect.DeepEqual(back, l) {
+		t.Error(len(s), e, f)
+	}
+	l[0].Record.Samples[1] *= 10
+	if s, e := Format(l); s != "" || e != api.ErrLimit {
+		t.Error(len(s), e)
 	}
 }

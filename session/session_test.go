@@ -123,6 +123,10 @@ func TestStatus(t *testing.T) {
 	if first, next, e := ParseStatus(m); first != 7 || next != 10 || e != api.OK {
 		t.Error(first, next, e)
 	}
+	empty, _ := Status(api.Sender{Size: 1, First: 7})
+	if first, next, e := ParseStatus(empty); first != 7 || next != 7 || e != api.OK {
+		t.Error(first, next, e)
+	}
 	if m, e := Status(api.Sender{}); m != "" || e != api.ErrInvalid {
 		t.Error(m, e)
 	}
@@ -203,6 +207,9 @@ func TestExample(t *testing.T) {
 		must(t, s, e)
 		for len(at) < len(s.Delivered) {
 			at = append(at, s.Now)
+		}
+		if s.Now == 1 && s.Known != 1 || s.Now == 15 && len(s.Up.Items) != 0 {
+			t.Error(s.Now, s.Known, s.Up)
 		}
 		if Quiet(s) != (len(at) == 3) {
 			t.Error(s.Now, at)
@@ -376,4 +383,65 @@ func TestRunErrors(t *testing.T) {
 	if _, f := Tick(must(t, s, e), nil, nil); f != api.ErrLimit {
 		t.Error(f)
 	}
+}
+
+func TestSixteenAtATime(t *testing.T) {
+	s := start(t, 64, 10)
+	for range 40 {
+		s = push(t, s, "", api.Fault{Drop: true})
+	}
+	for at, want := range map[int]int{22: 16, 32: 32, 42: 40} {
+		end, e := Run(s, at)
+		if must(t, end, e); len(end.Delivered) != want {
+			t.Error(at, len(end.Delivered))
+		}
+	}
+	l := []api.Span{{From: 0, To: 40}}
+	m, _ := Requests(40, l)
+	s.Up.Items, s.Up.Order = []api.Transit{{At: 1, Data: m}}, 1
+	s, e := Tick(s, nil, nil)
+	if must(t, s, e); len(s.Down.Items) != 16 {
+		t.Error(len(s.Down.Items))
+	}
+}
+
+// A message that the receiver cannot take changes nothing, not even what is lost.
+func TestFullReceiver(t *testing.T) {
+	s := start(t, 64, 100)
+	s.Sender.First = 20000
+	for i := range api.MaxSpans {
+		s.Receiver.Got = append(s.Receiver.Got, api.Span{From: 2*i + 1, To: 2*i + 2})
+	}
+	apart, _ := Data(15000, 1, "")
+	s.Down.Items, s.Down.Order = []api.Transit{{At: 1, Data: apart}}, 1
+	next, e := Tick(must(t, s, api.OK), nil, nil)
+	if must(t, next, e); !reflect.DeepEqual(next.Receiver, s.Receiver) || next.Known != 0 || len(next.Delivered) != 0 {
+		t.Error(next.Known, next.Receiver.Lost)
+	}
+	known, _ := Data(1, 2*api.MaxSpans+3, "")
+	s.Down.Items[0].Data = known
+	next, e = Tick(must(t, s, api.OK), nil, nil)
+	if must(t, next, e); !reflect.DeepEqual(next.Receiver, s.Receiver) || next.Known != 0 {
+		t.Error(next.Known, next.Receiver.Lost)
+	}
+	joins, _ := Data(2, 9, "")
+	s.Receiver.Lost = []api.Span{{From: 0, To: 1}}
+	s.Down.Items[0].Data = joins
+	next, e = Tick(must(t, s, api.OK), nil, nil)
+	if must(t, next, e); len(next.Delivered) != 1 || next.Known != 3 {
+		t.Error(next.Known, next.Delivered)
+	}
+}
+
+func TestMostArrivalsOfAValidSession(t *testing.T) {
+	s := start(t, 1, 1)
+	s.Receiver.Got = []api.Span{{From: 0, To: 9999}}
+	for i := range 4097 {
+		s.Delivered = append(s.Delivered, api.Arrival{Seq: i})
+	}
+	if Valid(s) {
+		t.Error("too many arrivals")
+	}
+	s.Delivered = s.Delivered[1:]
+	must(t, s, api.OK)
 }

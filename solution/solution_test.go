@@ -109,6 +109,11 @@ func TestUsable(t *testing.T) {
 			t.Error(i)
 		}
 	}
+	for time, want := range map[int]bool{99: false, 100: true, 4999: true, 5000: false} {
+		if _, ok := Usable(settings(), network(), api.Pick{Source: id("A"), Time: time, Late: 9999}); ok != want {
+			t.Error(time, ok)
+		}
+	}
 	for i, p := range unusable() {
 		if a, ok := Usable(settings(), network(), p); ok || a != (api.Phase{}) {
 			t.Error(i, a)

@@ -168,3 +168,20 @@ func TestCanonical(t *testing.T) {
 		t.Error("count")
 	}
 }
+
+func TestMostSamples(t *testing.T) {
+	for n, want := range map[int]api.Errno{api.MaxCount: api.OK, api.MaxCount + 1: api.ErrRange} {
+		data, e := Encode(make([]int, n))
+		if e != api.OK {
+			t.Fatal(e)
+		}
+		if got, e := Decode(data, n); e != want || e == api.OK && len(got) != n {
+			t.Error(n, len(got), e)
+		}
+	}
+	long := repeat(118, 0, 40000)
+	data, _ := Encode(long)
+	if got, e := Decode(data, len(long)); len(data) != 64*api.MaxFrames || !slices.Equal(got, long) || e != api.OK {
+		t.Error(len(data), e)
+	}
+}
