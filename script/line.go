@@ -5,27 +5,12 @@ import (
 	"strings"
 
 	"seismonet/api"
+	"seismonet/common"
 	"seismonet/record"
 	"seismonet/source"
 )
 
 const farthest = 1 << 60
-
-func within(n, low, high int) bool {
-	return n >= low && n <= high
-}
-
-func isPerson(by string) bool {
-	if !within(len(by), 1, api.MaxBy) {
-		return false
-	}
-	for i := range len(by) {
-		if by[i] < 'a' || by[i] > 'z' {
-			return false
-		}
-	}
-	return true
-}
 
 // layout tells what the line of a kind contains behind its word: a source, numbers and a person, in this order.
 type layout struct {
@@ -87,11 +72,11 @@ func isZero(o api.Op) bool {
 }
 
 func validSamples(o api.Op) bool {
-	if o.Kind == api.OpRecord && !within(len(o.Record.Samples), 1, api.MaxSamples) {
+	if o.Kind == api.OpRecord && !common.Within(len(o.Record.Samples), 1, api.MaxSamples) {
 		return false
 	}
 	for _, n := range o.Record.Samples {
-		if !within(n, -farthest, farthest) {
+		if !common.Within(n, -farthest, farthest) {
 			return false
 		}
 	}
@@ -101,7 +86,7 @@ func validSamples(o api.Op) bool {
 // Valid reports whether an operation is valid.
 func Valid(o api.Op) bool {
 	f, ok := layoutOf(o.Kind)
-	if !ok || !validSamples(o) || f.hasSource && !source.Valid(*sourceOf(&o)) || f.hasBy && !isPerson(o.By) {
+	if !ok || !validSamples(o) || f.hasSource && !source.Valid(*sourceOf(&o)) || f.hasBy && !common.IsPerson(o.By) {
 		return false
 	}
 	// All that the line contains is taken out of this copy; the rest must be zero.
@@ -115,7 +100,7 @@ func Valid(o api.Op) bool {
 		o.Record.Samples = nil
 	}
 	for _, n := range f.numbers(&o) {
-		if !within(*n, -farthest, farthest) {
+		if !common.Within(*n, -farthest, farthest) {
 			return false
 		}
 		*n = 0

@@ -3,6 +3,7 @@ package session
 import (
 	"seismonet/api"
 	"seismonet/bits"
+	"seismonet/common"
 	"seismonet/crc"
 	"seismonet/sender"
 	"seismonet/span"
@@ -19,10 +20,6 @@ const (
 	spanBytes     = 2 * numberBytes
 	maxSpans      = 16 // of a request
 )
-
-func within(n, low, high int) bool {
-	return n >= low && n <= high
-}
 
 // message returns a message without data behind its numbers.
 func message(letter byte, numbers ...int) string {
@@ -55,7 +52,7 @@ func numberAt(m string, i int) int {
 
 // Data returns a data message.
 func Data(seq, first int, data string) (string, api.Errno) {
-	if !within(seq, 0, api.MaxSeq) || !within(first, 0, api.MaxSeq+1) {
+	if !common.Within(seq, 0, api.MaxSeq) || !common.Within(first, 0, api.MaxSeq+1) {
 		return "", api.ErrRange
 	}
 	if len(data) > api.MaxMessage-headBytes-sumBytes {
@@ -105,7 +102,7 @@ func isSetBelow(l []api.Span, next int) bool {
 
 // Requests returns a request.
 func Requests(next int, l []api.Span) (string, api.Errno) {
-	if !within(next, 0, api.MaxSeq+1) || !isSetBelow(l, next) {
+	if !common.Within(next, 0, api.MaxSeq+1) || !isSetBelow(l, next) {
 		return "", api.ErrInvalid
 	}
 	if len(l) > maxSpans {

@@ -6,6 +6,7 @@ import (
 	"sort"
 
 	"seismonet/api"
+	"seismonet/common"
 )
 
 const (
@@ -132,17 +133,13 @@ func civilOf(second int) api.Civil {
 	return api.Civil{Year: year, Month: month, Day: day, Hour: rest / 3600, Minute: rest / 60 % 60, Second: rest % 60}
 }
 
-func within(n, low, high int) bool {
-	return n >= low && n <= high
-}
-
 // FromCivil returns the time of a civil time.
 func FromCivil(leaps []int, c api.Civil) (int, api.Errno) {
 	if !Valid(leaps) {
 		return 0, api.ErrInvalid
 	}
 	day, ok := Days(c.Year, c.Month, c.Day)
-	if !ok || !within(c.Hour, 0, 23) || !within(c.Minute, 0, 59) || !within(c.Second, 0, 60) || !within(c.Micro, 0, api.Second-1) {
+	if !ok || !common.Within(c.Hour, 0, 23) || !common.Within(c.Minute, 0, 59) || !common.Within(c.Second, 0, 60) || !common.Within(c.Micro, 0, api.Second-1) {
 		return 0, api.ErrRange
 	}
 	second, ok := secondOf(leaps, day, c)
